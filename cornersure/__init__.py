@@ -1,0 +1,1 @@
+"""Cornersure: numbers known within stretches."""

@@ -1,0 +1,14 @@
+"""The greatest sizes and numbers of all kinds of things."""
+
+MOST_END = 10000
+MOST_COLUMNS = 4
+MOST_ROWS = 8
+MOST_WEIGHT = 1000
+MOST_PRICE = 1000
+MOST_POINTS = 6
+MOST_FACTS = 12
+MOST_PLACES = 6
+MOST_TIES = 10
+MOST_LENGTH = 1000
+MOST_NAMES = 5
+MOST_SEATS = 12
