@@ -29,6 +29,24 @@ def is_name(value):
     return all(["a" <= letter <= "z" for letter in value])
 
 
+def are_letters(value, least, most):
+    """Whether any value is a string of that many letters from a to z, each one greater than that ahead of it."""
+    if not isinstance(value, str) or not least <= len(value) <= most:
+        return False
+    return all(["a" <= letter <= "z" for letter in value]) and ascends(value)
+
+
+def ascends(values):
+    """Whether each part of a string, or of a tuple of strings, is greater than that ahead of it."""
+    return all([one < other for one, other in zip(values, values[1:])])
+
+
+def is_one_of(value, names):
+    """Whether any value is one of these strings."""
+    # An object of another kind may call itself equal to any string, so strings alone are compared.
+    return isinstance(value, str) and value in names
+
+
 def is_stretch(value, least, most):
     """Whether any value is a pair (LOW, HIGH), LOW at most HIGH, of integers within these bounds."""
     if not is_pair_of_integers(value):
@@ -72,6 +90,12 @@ def stretches_told(words):
     """What these words tell, two by two: pairs of integers, but None for a wrong word and a last tuple of one."""
     numbers = [integer_told(word) for word in words]
     return tuple([tuple(numbers[at:at + 2]) for at in range(0, len(numbers), 2)])
+
+
+def row_told(line, many):
+    """What a line tells: so many words as they stand, then what `stretches_told` tells of the others."""
+    words = line.split(" ")
+    return (*words[:many], *stretches_told(words[many:]))
 
 
 def stretches_text(stretches):

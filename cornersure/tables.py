@@ -18,12 +18,14 @@ from cornersure.kinds import (
     are_fractions_in,
     is_integer,
     is_name,
+    is_one_of,
     is_stretch,
     is_tuple_of,
     stretches_text,
     stretches_told,
 )
 from cornersure.limits import MOST_COLUMNS, MOST_END, MOST_ROWS
+from cornersure.ratios import all_over
 
 
 class Table:
@@ -74,12 +76,11 @@ class Table:
 
     def stretch(self, name, column):
         """The stretch in this row and column."""
-        row, place = self._row_index(name), self._column_index(column)
-        return self._rows[row][1][place]
+        return row_stretches(self, name)[column_index(self, column)]
 
     def changed(self, name, column, stretch):
         """The table with another stretch in this row and column."""
-        row, place = self._row_index(name), self._column_index(column)
+        row, place = row_index(self, name), column_index(self, column)
         if not _is_end_pair(stretch):
             raise InvalidStretch(stretch)
         stretches = self._rows[row][1]
@@ -92,21 +93,10 @@ class Table:
 
     def without(self, name):
         """The table without this row."""
-        row = self._row_index(name)
+        row = row_index(self, name)
         if len(self._rows) == 1:
             raise TooFew(0)
         return Table(self._columns, (*self._rows[:row], *self._rows[row + 1:]))
-
-    def _row_index(self, name):
-        # An object of another kind may call itself equal to any name, so strings alone are compared.
-        if not isinstance(name, str) or name not in self.names:
-            raise UnknownName(name)
-        return self.names.index(name)
-
-    def _column_index(self, column):
-        if not isinstance(column, str) or column not in self._columns:
-            raise InvalidColumn(column)
-        return self._columns.index(column)
 
 
 def check_columns(columns):
@@ -135,6 +125,25 @@ def check_table(table):
         raise NotATable(table)
 
 
+def row_index(table, name):
+    """The index of the row with this name; raise UnknownName for what is no row's name."""
+    if not is_one_of(name, table.names):
+        raise UnknownName(name)
+    return table.names.index(name)
+
+
+def row_stretches(table, name):
+    """The stretches of the row with this name; raise UnknownName for what is no row's name."""
+    return table.rows[row_index(table, name)][1]
+
+
+def column_index(table, column):
+    """The index of this column; raise InvalidColumn for what is no column."""
+    if not is_one_of(column, table.columns):
+        raise InvalidColumn(column)
+    return table.columns.index(column)
+
+
 def check_signs(table, signs):
     """Raise InvalidSigns for what is no tuple of 1 and -1, one for each column."""
     if not is_tuple_of(signs, len(table.columns)):
@@ -153,19 +162,57 @@ def corner(table, signs):
     """The member with HIGH in the columns with 1 and LOW in those with -1."""
     check_table(table)
     check_signs(table, signs)
-    return tuple([_row_ends(stretches, signs) for _, stretches in table.rows])
+    return tuple([all_over(numbers, 1) for numbers in ends_by(table, signs)])
 
 
 def all_low(table):
     """The member with LOW in all places."""
     check_table(table)
-    return corner(table, (-1,) * len(table.columns))
+    return tuple([all_over(numbers, 1) for numbers in lows(table)])
 
 
 def all_high(table):
     """The member with HIGH in all places."""
     check_table(table)
-    return corner(table, (1,) * len(table.columns))
+    return tuple([all_over(numbers, 1) for numbers in highs(table)])
+
+
+def ends_by(table, signs):
+    """For each row the tuple of its ends, integers: HIGH in the columns with 1, LOW in those with -1."""
+    return [signed_ends(stretches, signs) for _, stretches in table.rows]
+
+
+def lows(table):
+    """For each row the tuple of its LOWs."""
+    return ends_by(table, (-1,) * len(table.columns))
+
+
+def highs(table):
+    """For each row the tuple of its HIGHs."""
+    return ends_by(table, (1,) * len(table.columns))
+
+
+def signed_ends(stretches, signs):
+    """The end of each stretch, an integer: HIGH for 1, LOW for -1."""
+    return tuple([high if sign == 1 else low for (low, high), sign in zip(stretches, signs)])
+
+
+def all_signs(table):
+    """All signs for the columns of a table, ascending."""
+    found = [()]
+    for _ in table.columns:
+        found = [(*signs, sign) for signs in found for sign in (-1, 1)]
+    return found
+
+
+def column_stretches(table):
+    """For each column the tuple of its stretches, row by row."""
+    return [tuple([stretches[at] for _, stretches in table.rows]) for at in range(len(table.columns))]
+
+
+def are_end_pairs(value, many):
+    """Whether any value is a tuple of that many stretches."""
+    return is_tuple_of(value, many) and all([_is_end_pair(part) for part in value])
 
 
 def exact(table, member):
@@ -216,7 +263,7 @@ def _is_row(value, many):
     if not is_tuple_of(value, 2):
         return False
     name, stretches = value
-    return is_name(name) and is_tuple_of(stretches, many) and all([_is_end_pair(part) for part in stretches])
+    return is_name(name) and are_end_pairs(stretches, many)
 
 
 def _row_told(line):
@@ -227,10 +274,6 @@ def _row_told(line):
 def _row_text(row):
     name, stretches = row
     return f"{name} {stretches_text(stretches)}"
-
-
-def _row_ends(stretches, signs):
-    return tuple([(high if sign == 1 else low, 1) for (low, high), sign in zip(stretches, signs)])
 
 
 def _exact_stretches(numbers):

@@ -7,25 +7,8 @@ from fractions import Fraction
 
 from cornersure.errors import InvalidMember, InvalidSigns, NotATable, NotWhole, TooMany
 from cornersure.tables import Table, all_high, all_low, corner, exact, is_member, is_within, turned
+from tests.drawn import any_member, any_table
 from tests.samples import Agreeing, Case, Plain, Refusing, bar, crop, odd_numbers, odd_values, table_of
-
-
-def any_table(source):
-    """Some table, the same one for the same source of numbers."""
-    columns = tuple("wxyz"[:source.randint(1, 4)])
-    names = "abcdefgh"[:source.randint(1, 8)]
-    return Table(columns, tuple((name, tuple(any_stretch(source) for _ in columns)) for name in names))
-
-
-def any_stretch(source):
-    low = source.choice((-10000, -7, -1, 0, 3))
-    return low, source.randint(low, 10000) if source.randint(0, 1) else low + source.randint(0, 3)
-
-
-def any_fraction(source, stretch):
-    low, high = stretch
-    number = Fraction(low) + (high - low) * Fraction(source.randint(0, 12), 12)
-    return number.numerator, number.denominator
 
 
 def replaced(member, row, column, value):
@@ -129,7 +112,7 @@ class MemberTest(Case):
         source = random.Random(9)
         for _ in range(80):
             table = any_table(source)
-            member = tuple(tuple(any_fraction(source, stretch) for stretch in row) for _, row in table.rows)
+            member = any_member(source, table)
             self.assertIs(is_member(table, member), True)
             row, column = source.randrange(len(table)), source.randrange(len(table.columns))
             low, high = table.rows[row][1][column]
