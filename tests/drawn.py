@@ -3,7 +3,10 @@
 import itertools
 from fractions import Fraction
 
+from cornersure.errors import NotJoined
 from cornersure.tables import Table
+from cornersure.times import Times
+from cornersure.webs import Web
 
 
 def any_table(source):
@@ -106,3 +109,38 @@ def corners_of(table):
 def ends_by_signs(table, signs):
     """The ends of all rows, HIGH for 1 and LOW for -1, as lists of integers."""
     return [[stretch[(sign + 1) // 2] for stretch, sign in zip(stretches, signs)] for _, stretches in table.rows]
+
+
+def any_times(source):
+    """Times of any size, often without a schedule."""
+    points = "".join(sorted(source.sample("abcdefghijklmnopqrstuvwxyz", source.randint(2, 6))))
+    facts = []
+    for _ in range(source.randint(0, 12)):
+        low = source.choice((-1000, source.randint(-1000, 1000), source.randint(-9, 9)))
+        facts.append((*source.sample(points, 2), (low, source.randint(low, 1000))))
+    return Times(points, tuple(facts))
+
+
+def small_times(source, points, facts, most=2):
+    """Times of just this size with small numbers."""
+    letters = "abcdef"[:points]
+    return Times(letters, tuple((*source.sample(letters, 2), small_stretch(source, most)) for _ in range(facts)))
+
+
+def any_web(source, most=1000, places=None, ties=None):
+    """A web: of any size, or of this one."""
+    places = places or source.randint(2, 6)
+    letters = "".join(sorted(source.sample("abcdefghij", places)))
+    every = [one + other for one, other in itertools.combinations(letters, 2)]
+    while True:
+        many = max(ties or source.randint(places - 1, 10), places - 1)
+        pairs = sorted(source.sample(every, min(many, len(every), 10)))
+        try:
+            return Web(letters, tuple((pair, length(source, most)) for pair in pairs))
+        except NotJoined:
+            pass
+
+
+def length(source, most):
+    low = source.choice((0, most, source.randint(0, most)))
+    return low, source.choice((low, source.randint(low, most)))
