@@ -207,9 +207,8 @@ def _check_for_price(table, target, prices):
 def _least_price(payoffs, prices):
     """The least price of a mix that holds 0 with these payoffs; None if there is none."""
     rows = [[-payoff for payoff in column] for column in zip(*payoffs)]
-    limits = [0] * len(rows)
-    # The sum of the shares is 1: at most 1, and at least 1.
-    return Program([*rows, [1] * len(prices), [-1] * len(prices)], [*limits, 1, -1], prices).least_cost()
+    # The sum of the shares need only be at least 1: if it is greater, less of each of them costs no more.
+    return Program([*rows, [-1] * len(prices)], [0] * len(rows) + [-1], prices).least_cost()
 
 
 def _corner_prices(table, target, prices):

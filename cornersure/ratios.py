@@ -4,15 +4,13 @@ from math import gcd, lcm
 
 
 def reduced(top, bottom):
-    """The fraction of two integers, the second one other than 0."""
+    """The fraction of two integers, the second one above 0."""
     part = gcd(top, bottom)
-    if bottom < 0:
-        part = -part
     return top // part, bottom // part
 
 
 def all_over(tops, bottom):
-    """The fractions of these integers over one bottom."""
+    """The fractions of these integers over one bottom, which is above 0."""
     return tuple([reduced(top, bottom) for top in tops])
 
 
