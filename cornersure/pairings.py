@@ -17,7 +17,7 @@ class PairingChoice(Choice):
         self._columns = table.columns
         stretches = {(name, column): stretch for name, row in table.rows for column, stretch in zip(table.columns, row)}
         lots = {pairing: tuple(zip(pairing, table.columns)) for pairing in _pairings_of(table)}
-        Choice.__init__(self, stretches, lots)
+        super().__init__(stretches, lots)
 
     def best_cost(self, numbers):
         """The cost of a best pairing, column by column: the least costs with which rows can be taken."""

@@ -3,8 +3,7 @@
 from cornersure.chains import Chains
 from cornersure.choices import Choice
 from cornersure.errors import InvalidWay
-from cornersure.ratios import total
-from cornersure.webs import check_two_places, check_web, check_web_member, pair_of
+from cornersure.webs import check_two_places, check_web, check_web_member, number_of, pair_of, pairs_of
 
 
 def check_way(web, way):
@@ -24,8 +23,7 @@ def way_cost(web, way, member):
     check_web(web)
     check_way(web, way)
     check_web_member(web, member)
-    pairs = pairs_of_way(way)
-    return total([number for (pair, _), number in zip(web.ties, member) if pair in pairs])
+    return number_of(web, pairs_of_way(way), member)
 
 
 def least_way_costs(web, place, other):
@@ -93,11 +91,8 @@ def pairs_of_way(way):
 def _is_way(web, value):
     if not isinstance(value, str) or len(value) < 2 or len(set(value)) < len(value):
         return False
-    return all([place in web.places for place in value]) and all([pair in _pairs(web) for pair in pairs_of_way(value)])
-
-
-def _pairs(web):
-    return [pair for pair, _ in web.ties]
+    pairs = pairs_of(web)
+    return all([pair in pairs for pair in pairs_of_way(value)])
 
 
 def _check_ends(web, place, other):
@@ -106,7 +101,7 @@ def _check_ends(web, place, other):
 
 
 def _ways_between(web, place, other):
-    pairs, done, begun = _pairs(web), [], [place]
+    pairs, done, begun = pairs_of(web), [], [place]
     while begun:
         begun = [way + step for way in begun for step in web.places
                  if step not in way and pair_of(way[-1], step) in pairs]
@@ -118,8 +113,7 @@ def _ways_between(web, place, other):
 def _choice_between(web, place, other):
     """The choice between all ways from the one place to the other."""
     _check_ends(web, place, other)
-    stretches = {pair: stretch for pair, stretch in web.ties}
-    return Choice(stretches, {way: pairs_of_way(way) for way in _ways_between(web, place, other)})
+    return Choice(dict(web.ties), {way: pairs_of_way(way) for way in _ways_between(web, place, other)})
 
 
 def _choice_around(web, way):

@@ -22,6 +22,7 @@ from cornersure.kinds import (
     stretches_text,
 )
 from cornersure.limits import MOST_LENGTH, MOST_PLACES, MOST_TIES
+from cornersure.ratios import total
 
 _LEAST_PLACES = 2
 
@@ -80,7 +81,7 @@ class Web:
     def changed(self, pair, stretch):
         """The web with another stretch of a tie."""
         index = tie_index(self, pair)
-        if not _is_length(stretch):
+        if not is_length(stretch):
             raise InvalidStretch(stretch)
         return Web(self._places, (*self._ties[:index], (pair, stretch), *self._ties[index + 1:]))
 
@@ -123,10 +124,15 @@ def check_web(web):
 
 def tie_index(web, pair):
     """The index of the tie between these places; raise InvalidTie for what is no PAIR of a tie."""
-    pairs = [name for name, _ in web.ties]
+    pairs = pairs_of(web)
     if not is_one_of(pair, pairs):
         raise InvalidTie(pair)
     return pairs.index(pair)
+
+
+def pairs_of(web):
+    """The PAIRs of all ties, ascending."""
+    return [pair for pair, _ in web.ties]
 
 
 def check_web_member(web, member):
@@ -135,12 +141,21 @@ def check_web_member(web, member):
         raise InvalidMember(member)
 
 
+def number_of(web, pairs, member):
+    """The sum of a member's numbers of the ties with these PAIRs, a fraction."""
+    return total([number for (pair, _), number in zip(web.ties, member) if pair in pairs])
+
+
+def check_place(web, place):
+    """Raise UnknownPlace for what is no place of the web."""
+    if not is_one_of(place, tuple(web.places)):
+        raise UnknownPlace(place)
+
+
 def check_two_places(web, place, other):
     """Raise UnknownPlace for what is no place, and for the same place twice."""
-    places = tuple(web.places)
-    if not is_one_of(place, places):
-        raise UnknownPlace(place)
-    if not is_one_of(other, places) or other == place:
+    check_place(web, place)
+    if not is_one_of(other, tuple(web.places)) or other == place:
         raise UnknownPlace(other)
 
 
@@ -167,13 +182,14 @@ def ends(web, low):
     return tuple([(least if pair in low else most, 1) for pair, (least, most) in web.ties])
 
 
+def is_length(value):
+    """Whether any value is a stretch as ties have it: of integers from 0 to 1000."""
+    return is_stretch(value, 0, MOST_LENGTH)
+
+
 def pair_of(place, other):
     """The PAIR of two places."""
     return place + other if place < other else other + place
-
-
-def _is_length(value):
-    return is_stretch(value, 0, MOST_LENGTH)
 
 
 def _is_tie(places, value):
@@ -182,7 +198,7 @@ def _is_tie(places, value):
     pair, stretch = value
     if not are_letters(pair, 2, 2) or pair[0] not in places or pair[1] not in places:
         return False
-    return _is_length(stretch)
+    return is_length(stretch)
 
 
 def _is_beside(place, reached, pairs):

@@ -68,7 +68,8 @@ def wrong_names(good):
 class Call:
     """A function, its right arguments by name, in the order of its signature, and what is wrong for each of them.
 
-    What is wrong: for a name of a parameter an error's class and the values for which it is raised with `given`.
+    What is wrong: for a name of a parameter an error's class and the values for which it is raised with `given`; if a
+    function stands behind these, the error is raised with the `index` that it tells for the value.
     """
 
     def __init__(self, action, right, wrong):
@@ -102,15 +103,21 @@ class CallsCase(Case):
         names = list(right)
         self.assertEqual(set(call.wrong), set(names))
         for at, name in enumerate(names):
-            kind, values = call.wrong[name]
-            for value in values:
+            for value in call.wrong[name][1]:
                 with self.subTest(action=call.action.__name__, name=name, kind=value.__class__.__name__):
                     here = {**right, name: value}
-                    self.assert_given(kind, value, call.action, **here)
+                    self.assert_error(call.wrong[name], value, call.action, **here)
                     later = {other: call.wrong[other][1][0] for other in names[at + 1:]}
-                    self.assert_given(kind, value, call.action, *{**here, **later}.values())
+                    self.assert_error(call.wrong[name], value, call.action, *{**here, **later}.values())
                     odd = {other: Plain() for other in names[at + 1:]}
-                    self.assert_given(kind, value, call.action, **{**here, **odd})
+                    self.assert_error(call.wrong[name], value, call.action, **{**here, **odd})
+
+    def assert_error(self, wrong, value, action, *args, **named):
+        kind, _, *told = wrong
+        if told:
+            self.assert_index(kind, told[0](value), action, *args, **named)
+        else:
+            self.assert_given(kind, value, action, *args, **named)
 
     def assert_calls(self, calls):
         for call in calls:

@@ -4,6 +4,7 @@ import itertools
 from fractions import Fraction
 
 from cornersure.errors import NotJoined
+from cornersure.seats import Counts
 from cornersure.tables import Table
 from cornersure.times import Times
 from cornersure.webs import Web
@@ -144,3 +145,9 @@ def any_web(source, most=1000, places=None, ties=None):
 def length(source, most):
     low = source.choice((0, most, source.randint(0, most)))
     return low, source.choice((low, source.randint(low, most)))
+
+
+def any_counts(source, most=1000, names=None):
+    """Counts: of any size, or of this one."""
+    names = sorted(source.sample(("a", "b", "ca", "cb", "d", "eeeeeeee", "p", "q"), names or source.randint(2, 5)))
+    return Counts(tuple((name, length(source, most)) for name in names))

@@ -171,13 +171,28 @@ class LanguageTest(unittest.TestCase):
         for place, node in self.nodes(ast.Compare):
             if any(isinstance(sign, (ast.Is, ast.IsNot)) for sign in node.ops):
                 sides = [node.left, *node.comparators]
-                self.assertTrue(any(isinstance(side, ast.Constant) and side.value in (None, True, False)
-                                    for side in sides), place)
+                known = any(isinstance(side, ast.Constant) and side.value in (None, True, False) for side in sides)
+                self.assertTrue(known or isinstance(node.left, ast.Name) and node.left.id == "self", place)
+
+    def test_l20_no_method_is_read_off_a_class(self):
+        """Only then `self` may be compared by `is`."""
+        classes = {node.name for _, node in self.nodes(ast.ClassDef)}
+        for place, node in self.nodes(ast.Attribute):
+            self.assertFalse(isinstance(node.value, ast.Name) and node.value.id in classes, place)
 
     def test_l25_methods_of_builtin_values(self):
         for place, node in self.nodes(ast.Call):
             if isinstance(node.func, ast.Attribute) and node.func.attr != "__init__":
                 self.assertIn(node.func.attr, [*METHODS, *self.own], place)
+
+    def test_l6_l7_stars_and_what_leaves_a_with(self):
+        for place, node in self.nodes(ast.Call):
+            for star in [part.value for part in node.args if isinstance(part, ast.Starred)]:
+                self.assertIsInstance(star, (ast.Name, ast.Attribute, ast.List, ast.Tuple), place)
+        for place, node in self.nodes(ast.FunctionDef):
+            if node.name == "__exit__":
+                for part in ast.walk(node):
+                    self.assertNotIsInstance(part, (ast.Call, ast.Subscript, ast.Raise, ast.BinOp), place)
 
     def test_l27_escapes(self):
         for path, text in self.texts.items():
