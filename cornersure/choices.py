@@ -1,5 +1,9 @@
 """Choices: lots of items, each item known within a stretch, and which lots are best at their corners."""
 
+# Which ends the items of a lot have, LOW or HIGH, at its own corner and at its far corner.
+OWN = 0
+FAR = 1
+
 
 class Choice:
     """Lots by their names, which ascend, each a tuple of items; and the stretches of all items."""
@@ -18,17 +22,13 @@ class Choice:
         highs = {item: high for item, (_, high) in self._stretches.items()}
         return self.best_cost(lows), self.best_cost(highs)
 
-    def own_corner(self, name):
-        """The numbers with LOW for the items of a lot and HIGH for all others."""
-        return self._corner(name, 0, 1)
-
-    def far_corner(self, name):
-        """The numbers with HIGH for the items of a lot and LOW for all others."""
-        return self._corner(name, 1, 0)
+    def corner(self, name, end):
+        """The numbers at the own or the far corner of a lot."""
+        return corner_of(self._stretches, self._lots[name], end)
 
     def is_possible(self, name):
         """Whether the lot is best in some member."""
-        return self._loss(name, self.own_corner(name)) == 0
+        return self._loss(name, self.corner(name, OWN)) == 0
 
     def is_sure(self, name):
         """Whether the lot is best in all members."""
@@ -36,11 +36,10 @@ class Choice:
 
     def worst_loss(self, name):
         """The greatest loss of the lot in a member."""
-        return self._loss(name, self.far_corner(name))
+        return self._loss(name, self.corner(name, FAR))
 
-    def better(self, name):
-        """A lot that costs less than this one at its far corner; None if it is sure."""
-        numbers = self.far_corner(name)
+    def better(self, name, numbers):
+        """A lot that costs less than this one with these numbers; None if none does."""
         found = min(list(self._lots), key=lambda other: lot_cost(self._lots[other], numbers))
         return found if lot_cost(self._lots[found], numbers) < lot_cost(self._lots[name], numbers) else None
 
@@ -64,12 +63,13 @@ class Choice:
         lots = [self._lots[name] for name in self.possible_lots()]
         return tuple([item for item in sorted(self._stretches) if all([item in lot for lot in lots])])
 
-    def _corner(self, name, inside, outside):
-        lot = self._lots[name]
-        return {item: stretch[inside if item in lot else outside] for item, stretch in self._stretches.items()}
-
     def _loss(self, name, numbers):
         return lot_cost(self._lots[name], numbers) - self.best_cost(numbers)
+
+
+def corner_of(stretches, lot, end):
+    """The numbers at the own or the far corner of a lot: this end for its items, the other one for all others."""
+    return {item: stretch[end if item in lot else 1 - end] for item, stretch in stretches.items()}
 
 
 def lot_cost(lot, numbers):

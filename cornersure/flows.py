@@ -40,7 +40,7 @@ def all_cuts(web, place, other):
 def cut_room(web, cut, member):
     """The room of the ties out of these places in a member, a fraction."""
     check_web(web)
-    if not is_one_of(cut, _lots_of(web.places)) or cut == web.places:
+    if not is_one_of(cut, lots_of(web.places)) or cut == web.places:
         raise InvalidCut(cut)
     check_web_member(web, member)
     return number_of(web, pairs_out(web, cut), member)
@@ -60,17 +60,17 @@ def flow(web, place, other, low):
 
 def is_possible_cut(web, place, other, cut):
     """Whether the cut is best in some member."""
-    return _choice_around(web, place, other, cut).is_possible(cut)
+    return cut_choice(web, place, other, cut).is_possible(cut)
 
 
 def is_sure_cut(web, place, other, cut):
     """Whether the cut is best in all members."""
-    return _choice_around(web, place, other, cut).is_sure(cut)
+    return cut_choice(web, place, other, cut).is_sure(cut)
 
 
 def cut_loss(web, place, other, cut):
     """The worst loss of the cut."""
-    return _choice_around(web, place, other, cut).worst_loss(cut)
+    return cut_choice(web, place, other, cut).worst_loss(cut)
 
 
 def possible_cuts(web, place, other):
@@ -118,6 +118,29 @@ def flow_with(web, place, other, rooms):
     return tuple(greatest_flow(ties, place, other))
 
 
+def serving_flow(web, rooms, place, amounts):
+    """Any flow out of a place with these rooms of the ties that brings all places these amounts, if there is one."""
+    ties = [(pair[0], pair[1], room) for pair, room in zip(pairs_of(web), rooms)]
+    # A further place, tied to each other one with its amount as room, gets what all of them get.
+    ties += [(letter, "", amount) for letter, amount in zip(web.places, amounts)]
+    return tuple(greatest_flow(ties, place, "")[:len(web)])
+
+
+def cut_choice(web, place, other, cut):
+    """The choice between all cuts between the two places, this one among them."""
+    _check_ends(web, place, other)
+    check_cut(web, place, other, cut)
+    return _choice_between(web, place, other)
+
+
+def lots_of(places):
+    """All ascending strings of one or more of these places."""
+    found = [""]
+    for place in places:
+        found = found + [lot + place for lot in found]
+    return found[1:]
+
+
 def pairs_out(web, lot):
     """The PAIRs of the ties with one of both places in this lot of places."""
     return [pair for pair in pairs_of(web) if (pair[0] in lot) != (pair[1] in lot)]
@@ -134,16 +157,8 @@ def _check_wished(web, place, wishes):
     check_wishes(web, place, wishes)
 
 
-def _lots_of(places):
-    """All ascending strings of one or more of these places."""
-    found = [""]
-    for place in places:
-        found = found + [lot + place for lot in found]
-    return found[1:]
-
-
 def _cuts_between(web, place, other):
-    return sorted([lot for lot in _lots_of(web.places) if place in lot and other not in lot])
+    return sorted([lot for lot in lots_of(web.places) if place in lot and other not in lot])
 
 
 def _choice_between(web, place, other):
@@ -152,15 +167,9 @@ def _choice_between(web, place, other):
     return Choice(dict(web.ties), {cut: pairs_out(web, cut) for cut in _cuts_between(web, place, other)})
 
 
-def _choice_around(web, place, other, cut):
-    _check_ends(web, place, other)
-    check_cut(web, place, other, cut)
-    return _choice_between(web, place, other)
-
-
 def _lot_beyond(web, place, wished, rooms):
     """The first places without the source that wish for more than the ties to them have room for; None if none do."""
-    for lot in [lot for lot in _lots_of(web.places) if place not in lot]:
+    for lot in [lot for lot in lots_of(web.places) if place not in lot]:
         wish = sum([number for letter, number in zip(web.places, wished) if letter in lot])
         if wish > sum([rooms[pair] for pair in pairs_out(web, lot)]):
             return lot

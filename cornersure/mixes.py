@@ -161,6 +161,13 @@ def possible_payoffs(table, target):
     return [_kept_below(stretches, target, -1) + _kept_above(stretches, target, 1) for _, stretches in table.rows]
 
 
+def price_program(payoffs, prices):
+    """The program of mixes that hold 0 with these payoffs, at the least price."""
+    rows = [[-payoff for payoff in column] for column in zip(*payoffs)]
+    # The sum of the shares need only be at least 1: if it is greater, less of each of them costs no more.
+    return Program([*rows, [-1] * len(prices)], [0] * len(rows) + [-1], prices)
+
+
 def _is_price(value):
     return is_integer(value) and 0 <= value <= MOST_PRICE
 
@@ -206,9 +213,7 @@ def _check_for_price(table, target, prices):
 
 def _least_price(payoffs, prices):
     """The least price of a mix that holds 0 with these payoffs; None if there is none."""
-    rows = [[-payoff for payoff in column] for column in zip(*payoffs)]
-    # The sum of the shares need only be at least 1: if it is greater, less of each of them costs no more.
-    return Program([*rows, [-1] * len(prices)], [0] * len(rows) + [-1], prices).least_cost()
+    return price_program(payoffs, prices).least_cost()
 
 
 def _corner_prices(table, target, prices):

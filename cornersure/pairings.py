@@ -2,7 +2,7 @@
 
 from itertools import permutations
 
-from cornersure.choices import Choice
+from cornersure.choices import FAR, OWN, Choice
 from cornersure.errors import InvalidPairing, Narrow
 from cornersure.kinds import is_one_of, is_tuple_of
 from cornersure.ratios import total
@@ -65,17 +65,17 @@ def least_pairing_costs(table):
 
 def is_possible_pairing(table, pairing):
     """Whether the pairing is best in some member."""
-    return _choice_around(table, pairing).is_possible(pairing)
+    return pairing_choice(table, pairing).is_possible(pairing)
 
 
 def is_sure_pairing(table, pairing):
     """Whether the pairing is best in all members."""
-    return _choice_around(table, pairing).is_sure(pairing)
+    return pairing_choice(table, pairing).is_sure(pairing)
 
 
 def pairing_loss(table, pairing):
     """The worst loss of the pairing."""
-    return _choice_around(table, pairing).worst_loss(pairing)
+    return pairing_choice(table, pairing).worst_loss(pairing)
 
 
 def possible_pairings(table):
@@ -100,13 +100,35 @@ def sure_places(table):
 
 def pairing_prices(table, pairing):
     """Any prices, integers, that show the pairing best at its own corner; None if it is not possible."""
-    choice = _choice_around(table, pairing)
-    return _prices_at(table, pairing, choice.own_corner(pairing)) if choice.is_possible(pairing) else None
+    choice = pairing_choice(table, pairing)
+    return prices_at(table, pairing, choice.corner(pairing, OWN)) if choice.is_possible(pairing) else None
 
 
 def better_pairing(table, pairing):
     """Any pairing that costs less at the far corner of this one; None if it is sure."""
-    return _choice_around(table, pairing).better(pairing)
+    choice = pairing_choice(table, pairing)
+    return choice.better(pairing, choice.corner(pairing, FAR))
+
+
+def pairing_choice(table, pairing):
+    """The choice between all pairings, this one among them."""
+    # A narrow table has no pairings, so that it needs no look of its own.
+    check_table(table)
+    check_pairing(table, pairing)
+    return PairingChoice(table)
+
+
+def prices_at(table, pairing, numbers):
+    """Prices that show the pairing best with these numbers: the least ones of rows by which no other row is cheaper."""
+    prices = {name: 0 for name in table.names}
+    # What a row's price raises goes on from row to row, over each column once at most, as the pairing is best.
+    for _ in pairing:
+        for place in zip(pairing, table.columns):
+            for name in table.names:
+                cheaper = numbers[place] - numbers[(name, place[1])]
+                prices[name] = max(prices[name], prices[place[0]] + cheaper)
+    columns = [prices[place[0]] + numbers[place] for place in zip(pairing, table.columns)]
+    return tuple([prices[name] for name in table.names]), tuple(columns)
 
 
 def _is_pairing(table, value):
@@ -129,23 +151,3 @@ def _check_not_narrow(table):
 def _choice_of(table):
     _check_not_narrow(table)
     return PairingChoice(table)
-
-
-def _choice_around(table, pairing):
-    # A narrow table has no pairings, so that it needs no look of its own.
-    check_table(table)
-    check_pairing(table, pairing)
-    return PairingChoice(table)
-
-
-def _prices_at(table, pairing, numbers):
-    """The least prices of rows by which none of them would be a cheaper one for a column that has another row."""
-    prices = {name: 0 for name in table.names}
-    # What a row's price raises goes on from row to row, over each column once at most, as the pairing is best.
-    for _ in pairing:
-        for place in zip(pairing, table.columns):
-            for name in table.names:
-                cheaper = numbers[place] - numbers[(name, place[1])]
-                prices[name] = max(prices[name], prices[place[0]] + cheaper)
-    columns = [prices[place[0]] + numbers[place] for place in zip(pairing, table.columns)]
-    return tuple([prices[name] for name in table.names]), tuple(columns)

@@ -36,13 +36,7 @@ class Counts:
     @classmethod
     def told(cls, text):
         """The counts whose text this is."""
-        if not isinstance(text, str):
-            raise InvalidText(text)
-        parts = tuple([row_told(line, 1) for line in text.split("\n")])
-        try:
-            return cls(parts)
-        except InvalidCounts:
-            raise InvalidText(text) from None
+        return counts_told(text)
 
     @property
     def parts(self):
@@ -67,6 +61,17 @@ class Counts:
 
     def __eq__(self, other):
         return isinstance(other, Counts) and self._parts == other._parts
+
+
+def counts_told(text):
+    """The counts whose text this is; raise InvalidText for what is no such text."""
+    if not isinstance(text, str):
+        raise InvalidText(text)
+    parts = tuple([row_told(line, 1) for line in text.split("\n")])
+    try:
+        return Counts(parts)
+    except InvalidCounts:
+        raise InvalidText(text) from None
 
 
 def check_parts(parts):

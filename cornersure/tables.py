@@ -40,15 +40,7 @@ class Table:
     @classmethod
     def told(cls, text):
         """The table whose text this is."""
-        if not isinstance(text, str):
-            raise InvalidText(text)
-        lines = text.split("\n")
-        columns = tuple(lines[0].split(" "))
-        rows = tuple([_row_told(line) for line in lines[1:]])
-        try:
-            return cls(columns, rows)
-        except (InvalidColumns, InvalidRows):
-            raise InvalidText(text) from None
+        return table_told(text)
 
     @property
     def columns(self):
@@ -97,6 +89,18 @@ class Table:
         if len(self._rows) == 1:
             raise TooFew(0)
         return Table(self._columns, (*self._rows[:row], *self._rows[row + 1:]))
+
+
+def table_told(text):
+    """The table whose text this is; raise InvalidText for what is no such text."""
+    if not isinstance(text, str):
+        raise InvalidText(text)
+    lines = text.split("\n")
+    rows = tuple([_row_told(line) for line in lines[1:]])
+    try:
+        return Table(tuple(lines[0].split(" ")), rows)
+    except (InvalidColumns, InvalidRows):
+        raise InvalidText(text) from None
 
 
 def check_columns(columns):

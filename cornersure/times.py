@@ -36,14 +36,7 @@ class Times:
     @classmethod
     def told(cls, text):
         """The times whose text this is."""
-        if not isinstance(text, str):
-            raise InvalidText(text)
-        lines = text.split("\n")
-        facts = tuple([row_told(line, 2) for line in lines[1:]])
-        try:
-            return cls(lines[0], facts)
-        except (InvalidPoints, InvalidFacts):
-            raise InvalidText(text) from None
+        return times_told(text)
 
     @property
     def points(self):
@@ -77,6 +70,18 @@ class Times:
         if not is_integer(index) or not 0 <= index < len(self._facts):
             raise InvalidNumber(index)
         return Times(self._points, (*self._facts[:index], *self._facts[index + 1:]))
+
+
+def times_told(text):
+    """The times whose text this is; raise InvalidText for what is no such text."""
+    if not isinstance(text, str):
+        raise InvalidText(text)
+    lines = text.split("\n")
+    facts = tuple([row_told(line, 2) for line in lines[1:]])
+    try:
+        return Times(lines[0], facts)
+    except (InvalidPoints, InvalidFacts):
+        raise InvalidText(text) from None
 
 
 def check_facts(points, facts):

@@ -2,7 +2,7 @@
 
 from itertools import combinations
 
-from cornersure.choices import Choice
+from cornersure.choices import OWN, Choice, corner_of
 from cornersure.errors import InvalidTree
 from cornersure.kinds import ascends, is_one_of, is_tuple_of
 from cornersure.webs import check_web, check_web_member, number_of, pairs_of, places_reached
@@ -72,7 +72,7 @@ def exchange(web, tree):
     """Any pair (IN, OUT) of PAIRs whose exchange gains at the tree's own corner; None if the tree is possible."""
     check_web(web)
     check_tree(web, tree)
-    return exchange_at(web, tree, {pair: stretch[0 if pair in tree else 1] for pair, stretch in web.ties})
+    return exchange_at(web, tree, corner_of(dict(web.ties), tree, OWN))
 
 
 def exchange_at(web, tree, numbers):

@@ -1,7 +1,7 @@
 """Ways from one place of a web to another one: their costs, and which are best in some, in all members."""
 
 from cornersure.chains import Chains
-from cornersure.choices import Choice
+from cornersure.choices import FAR, OWN, Choice
 from cornersure.errors import InvalidWay
 from cornersure.webs import check_two_places, check_web, check_web_member, number_of, pair_of, pairs_of
 
@@ -33,17 +33,17 @@ def least_way_costs(web, place, other):
 
 def is_possible_way(web, way):
     """Whether the way is best in some member among those with its ends."""
-    return _choice_around(web, way).is_possible(way)
+    return way_choice(web, way).is_possible(way)
 
 
 def is_sure_way(web, way):
     """Whether the way is best in all members among those with its ends."""
-    return _choice_around(web, way).is_sure(way)
+    return way_choice(web, way).is_sure(way)
 
 
 def way_loss(web, way):
     """The worst loss of the way."""
-    return _choice_around(web, way).worst_loss(way)
+    return way_choice(web, way).worst_loss(way)
 
 
 def possible_ways(web, place, other):
@@ -68,19 +68,29 @@ def sure_way_ties(web, place, other):
 
 def heights(web, way):
     """Any heights, integers, that show the way best at its own corner; None if it is not possible."""
-    choice = _choice_around(web, way)
-    if not choice.is_possible(way):
-        return None
-    numbers = choice.own_corner(way)
+    choice = way_choice(web, way)
+    return heights_at(web, way, choice.corner(way, OWN)) if choice.is_possible(way) else None
+
+
+def better_way(web, way):
+    """Any way with the same ends that costs less at the far corner of this one; None if it is sure."""
+    choice = way_choice(web, way)
+    return choice.better(way, choice.corner(way, FAR))
+
+
+def heights_at(web, way, numbers):
+    """The costs with these numbers of best ways from the first place of this one: heights that show it best."""
     steps = [(pair[0], pair[1], numbers[pair], None) for pair in numbers]
     steps += [(pair[1], pair[0], numbers[pair], None) for pair in numbers]
     sizes = Chains(steps, {way[0]: 0}, len(web.places)).sizes
     return tuple([sizes[place] for place in web.places])
 
 
-def better_way(web, way):
-    """Any way with the same ends that costs less at the far corner of this one; None if it is sure."""
-    return _choice_around(web, way).better(way)
+def way_choice(web, way):
+    """The choice between all ways with the ends of this one."""
+    check_web(web)
+    check_way(web, way)
+    return _choice_between(web, way[0], way[-1])
 
 
 def pairs_of_way(way):
@@ -114,10 +124,3 @@ def _choice_between(web, place, other):
     """The choice between all ways from the one place to the other."""
     _check_ends(web, place, other)
     return Choice(dict(web.ties), {way: pairs_of_way(way) for way in _ways_between(web, place, other)})
-
-
-def _choice_around(web, way):
-    """The choice between all ways with the ends of this one."""
-    check_web(web)
-    check_way(web, way)
-    return _choice_between(web, way[0], way[-1])

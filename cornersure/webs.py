@@ -41,14 +41,7 @@ class Web:
     @classmethod
     def told(cls, text):
         """The web whose text this is."""
-        if not isinstance(text, str):
-            raise InvalidText(text)
-        lines = text.split("\n")
-        ties = tuple([row_told(line, 1) for line in lines[1:]])
-        try:
-            return cls(lines[0], ties)
-        except (InvalidPlaces, InvalidTies, NotJoined):
-            raise InvalidText(text) from None
+        return web_told(text)
 
     @property
     def places(self):
@@ -89,6 +82,18 @@ class Web:
         """The web without a tie."""
         index = tie_index(self, pair)
         return Web(self._places, (*self._ties[:index], *self._ties[index + 1:]))
+
+
+def web_told(text):
+    """The web whose text this is; raise InvalidText for what is no such text."""
+    if not isinstance(text, str):
+        raise InvalidText(text)
+    lines = text.split("\n")
+    ties = tuple([row_told(line, 1) for line in lines[1:]])
+    try:
+        return Web(lines[0], ties)
+    except (InvalidPlaces, InvalidTies, NotJoined):
+        raise InvalidText(text) from None
 
 
 def check_ties(places, ties):
