@@ -125,6 +125,8 @@ OTHERS = (
     ("web", "abc\nab 1 2\nac 1 3\nbc 0 1", ("tree", ("ac", "bc")), True),
     ("counts", "a 0 0\nb 0 0", ("seats", "odd", 3, "a", 0), True),
     ("counts", "a 0 0\nb 0 0", ("seats", "odd", 3, "a", 1), False),
+    ("counts", "north 5 6\nsouth 1 2", ("seats", "whole", 2, "north", 2), True),
+    ("counts", "north 5 6\nsouth 1 2", ("seats", "whole", 2, "south", 1), False),
 )
 
 

@@ -1,5 +1,6 @@
 """The checker beside an own one, over papers that are right and papers that are nearly so."""
 
+import itertools
 import random
 import unittest
 
@@ -8,8 +9,9 @@ from cornersure.checker import accepts
 from cornersure.errors import NotServed, NoTimes
 from cornersure.tables import Table
 from tests.claims import OPPOSITES, drawn_calls, nearly
+from tests.drawn import small_table
 from tests.own_checker import WORDS, own_accepts
-from tests.samples import Agreeing, Case, Plain, Refusing, bar, crop, odd_values
+from tests.samples import Agreeing, Case, Refusing, bar, crop, odd_values
 from tests.test_counts import TEXT as COUNTS
 from tests.test_counts import poll
 from tests.test_times import TEXT as TIMES
@@ -48,7 +50,7 @@ BY_HAND = (
     (("lead", TIMES, "a", "c", 6), ((2, -1),), [((0, 1), (1, 1)), (), ((2, 1),)]),
     (("reached", TIMES, "a", "c", 6), (0, 3, 6, 6), [(0, 4, 7, 7), (0, 2, 5, 5)]),
     (("possible way", WEB, "abd"), (0, 1, 2, 4), [(0, 1, 2, 5), (0, 2, 2, 4), (0, 1, 3, 4)]),
-    (("no way", WEB, "bac"), "bc", ["bac", "bdc", "cb", "ba"]),
+    (("no way", WEB, "bac"), "bc", ["bac", "bdc", "cb", "ba", "ac"]),
     (("sure way", WEB, "bc"), (0, 0, 1, 0), [(0, 0, 2, 0), (0, 1, 1, 0)]),
     (("unsure way", WEB, "acd"), "abd", ["acd", "abcd", "dba", "ab"]),
     (("possible pairing", TABLE, ("p", "q")), ((0, 0, 0), (1, 1)), [((0, 0, 1), (1, 1)), ((0, 0, 0), (1, 2)), ((0, 0), (1, 1))]),
@@ -69,6 +71,22 @@ BY_HAND = (
     (("cannot come", COUNTS, "whole", (1, 2, 1)), ("q", "p"), [("p", "q"), ("q", "q"), ("q", "r"), ("r", "q")]),
 )
 
+LEVEL = "x y\np 1 1 1 1\nq -1 -1 -1 -1"
+EVEN, UNEVEN = (ONE, ONE), (ONE, (2, 1))
+# Claims that are not so, with papers that fail in one place alone.
+NOT_SO = (
+    (("possible pairing", TABLE, ("q", "p")), ((0, 0, 0), (2, 3))),
+    (("possible pairing", TABLE, ("r", "q")), ((0, 0, 0), (4, 1))),
+    (("sure pairing", TABLE, ("p", "q")), ((0, 0, 0), (2, 1))),
+    (("no answer", LEVEL, ((-1, 0), (-1, -1))), (EVEN, EVEN, UNEVEN, EVEN)),
+    (("no answer", LEVEL, ((-1, 0), (-1, -1))), (EVEN, UNEVEN, EVEN, EVEN)),
+    (("no answer", LEVEL, ((-1, 0), (-1, 0))), (EVEN, EVEN, EVEN, EVEN)),
+    (("possible way", WEB, "bac"), (2, 1, 0, 0)),
+    (("possible cut", WEB, "a", "d", "ac"), (1, 2, 0, 1, 2)),
+    (("possible tree", WEB, ("ab", "ac", "bd")), ()),
+    (("sure tree", WEB, ("ac", "bc", "bd")), ()),
+)
+
 
 class ByHandTest(Case):
     def test_papers(self):
@@ -81,6 +99,28 @@ class ByHandTest(Case):
                 for other in wrong:
                     self.assertIs(accepts(claim, other), False, other)
                     self.assertIs(own_accepts(claim, other), False, other)
+
+    def test_claims_that_are_not_so(self):
+        for claim, paper in NOT_SO:
+            self.assertIs(accepts(claim, paper), False, claim)
+            self.assertIs(own_accepts(claim, paper), False, claim)
+        self.assertIs(accepts(("no answer", LEVEL, ((-1, 0), (-1, -1))), (EVEN,) * 4), True)
+        self.assertIs(accepts(("no answer", LEVEL, ((-1, 0), (-1, -1))), (UNEVEN, EVEN, EVEN, EVEN)), True)
+
+    def test_prices_of_all_pairings_of_small_tables(self):
+        source, seen = random.Random(303), set()
+        for _ in range(40):
+            table = small_table(source, 2, source.randint(2, 3), 2)
+            for pairing in itertools.permutations(table.names, 2):
+                for word, end in (("possible pairing", 0), ("sure pairing", 1)):
+                    numbers = [table.stretch(name, column)[end] for name, column in zip(pairing, table.columns)]
+                    for first, second in itertools.product(range(3), repeat=2):
+                        rows = tuple(dict(zip(pairing, (first, second))).get(name, 0) for name in table.names)
+                        paper = rows, (numbers[0] + first, numbers[1] + second)
+                        told = accepts((word, str(table), pairing), paper)
+                        self.assertIs(told, own_accepts((word, str(table), pairing), paper))
+                        seen.add((word, told))
+        self.assertEqual(len(seen), 4)
 
     def test_each_paper_for_each_other_word(self):
         for claim, _, _ in BY_HAND:
