@@ -30,6 +30,9 @@ class Console:
     def __init__(self, table):
         self._board = Board(table)
 
+    def __eq__(self, other):
+        return self is other
+
     @property
     def board(self):
         """The board."""

@@ -169,7 +169,7 @@ def _choice_between(web, place, other):
 
 def _lot_beyond(web, place, wished, rooms):
     """The first places without the source that wish for more than the ties to them have room for; None if none do."""
-    for lot in [lot for lot in lots_of(web.places) if place not in lot]:
+    for lot in [letters for letters in lots_of(web.places) if place not in letters]:
         wish = sum([number for letter, number in zip(web.places, wished) if letter in lot])
         if wish > sum([rooms[pair] for pair in pairs_out(web, lot)]):
             return lot

@@ -77,7 +77,7 @@ def exchange(web, tree):
 
 def exchange_at(web, tree, numbers):
     """The first pair (IN, OUT) whose exchange makes another tree that costs less with these numbers; None if none."""
-    for other in [pair for pair in pairs_of(web) if pair not in tree]:
+    for other in [name for name in pairs_of(web) if name not in tree]:
         for pair in tree:
             # Without a tie on the way between the two places of another one, this one alone joins them again.
             if numbers[other] < numbers[pair] and _is_joined(web, [other, *[part for part in tree if part != pair]]):
@@ -97,7 +97,8 @@ def _is_joined(web, pairs):
 
 
 def _trees_of(web):
-    lots = list(combinations(pairs_of(web), len(web.places[1:])))
+    pairs = [pair for pair, _ in web.ties]
+    lots = list(combinations(pairs, len(web.places[1:])))
     return [lot for lot in lots if _is_joined(web, lot)]
 
 

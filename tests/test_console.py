@@ -32,7 +32,9 @@ class AnswersTest(Case):
         self.assertEqual((console.board.__class__, console.board.now, console.board.changes), (Board, table, 0))
         self.assertIs(console.board, console.board)
         self.assertEqual(Console(table=bar()).board.now, bar())
-        self.assertIs(bool(console), True)
+        self.assertEqual((bool(console), console == console, console == Console(table)), (True, True, False))
+        for value in odd_values():
+            self.assertIs(console == value, False)
         with self.assertRaises(AttributeError):
             console.board = 1
         for value in [*odd_values(), str(crop()), crop().rows, Board(crop())]:
